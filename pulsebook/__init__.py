@@ -1,0 +1,1 @@
+"""Pulsebook: days that come again for ever, reckoned with as wholes."""

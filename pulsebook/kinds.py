@@ -1,0 +1,60 @@
+"""What the modules share: whole numbers, the figures of days, and the one pulse that has given days."""
+
+from pulsebook.errors import TooLong
+
+LONGEST_HEAD = 400
+LONGEST_BAR = 200
+
+
+def is_whole(value):
+    # Python counts True and False among the whole numbers; here they are none.
+    return isinstance(value, int) and not isinstance(value, bool)
+
+
+def is_figure(value):
+    return is_whole(value) and 0 <= value <= 1
+
+
+def place_in_bar(day, head, bar):
+    # The bar goes on backwards too: a day of the head also has a place in it, as % is never below 0 here.
+    return (day - len(head)) % len(bar)
+
+
+def figure_of(pulse, day):
+    head = pulse[0]
+    bar = pulse[1]
+    if day < len(head):
+        return head[day]
+    return bar[place_in_bar(day, head, bar)]
+
+
+def shortest_bar(bar):
+    # The least length at which a bar comes again divides each other such length, so no others need be tried.
+    for length in range(1, len(bar)):
+        if len(bar) % length == 0 and bar[:length] * (len(bar) // length) == bar:
+            return bar[:length]
+    return bar
+
+
+def needed_of_head(head, bar):
+    needed = len(head)
+    while needed > 0 and head[needed - 1] == bar[place_in_bar(needed - 1, head, bar)]:
+        needed = needed - 1
+    return needed
+
+
+def tight(head, bar):
+    short = shortest_bar(bar)
+    needed = needed_of_head(head, short)
+    first = place_in_bar(needed, head, short)
+    return (head[:needed], short[first:] + short[:first])
+
+
+# The bounds hold for the pulse that is told alone: head and bar as reckoned may be longer.
+def told(head, bar):
+    pulse = tight(tuple(head), tuple(bar))
+    if len(pulse[0]) > LONGEST_HEAD:
+        raise TooLong("the head would be too long")
+    if len(pulse[1]) > LONGEST_BAR:
+        raise TooLong("the bar would be too long")
+    return pulse
