@@ -28,6 +28,22 @@ def figure_of(pulse, day):
     return bar[place_in_bar(day, head, bar)]
 
 
+def places_of_ones(figures):
+    return [place for place in range(len(figures)) if figures[place] == 1]
+
+
+def longer_head(one, other):
+    return max(len(one[0]), len(other[0]))
+
+
+# Behind both heads, both bars begin anew together after so many days.
+def common_bar(one, other):
+    length = len(one[1])
+    while length % len(other[1]) != 0:
+        length = length + len(one[1])
+    return length
+
+
 def shortest_bar(bar):
     # The least length at which a bar comes again divides each other such length, so no others need be tried.
     for length in range(1, len(bar)):

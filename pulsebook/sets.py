@@ -1,6 +1,6 @@
 """Days put together: pulses joined, met and turned."""
 
-from pulsebook.kinds import figure_of, told
+from pulsebook.kinds import common_bar, figure_of, longer_head, told
 
 # The figure of a day that is a day of: neither pulse, the second alone, the first alone, both.
 OF_BOTH = (0, 0, 0, 1)
@@ -9,18 +9,14 @@ OF_FIRST_ALONE = (0, 0, 1, 0)
 OF_JUST_ONE = (0, 1, 1, 0)
 
 
-def common_length(one, other):
-    length = one
-    while length % other != 0:
-        length = length + one
-    return length
+def figure_together(one, other, wanted, day):
+    return wanted[2 * figure_of(one, day) + figure_of(other, day)]
 
 
 def put_together(one, other, wanted):
-    # Behind both heads, both bars begin anew together after their common length, so that many days tell all.
-    head = max(len(one[0]), len(other[0]))
-    bar = common_length(len(one[1]), len(other[1]))
-    days = [wanted[2 * figure_of(one, day) + figure_of(other, day)] for day in range(head + bar)]
+    head = longer_head(one, other)
+    length = head + common_bar(one, other)
+    days = [figure_together(one, other, wanted, day) for day in range(length)]
     return told(days[:head], days[head:])
 
 

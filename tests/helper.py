@@ -15,6 +15,11 @@ def figures(form, length):
     return [figure(form, day) for day in range(length)]
 
 
+def days_below(form, length):
+    """The days of a form below a day, one by one."""
+    return [day for day in range(length) if figure(form, day) == 1]
+
+
 def rows(longest, fewest=0):
     """All tuples of noughts and ones of the told lengths."""
     return [row for length in range(fewest, longest + 1) for row in product((0, 1), repeat=length)]
@@ -44,6 +49,25 @@ def pulse_of_days(one, other, joined):
 def every(*steps):
     """The form without a head of the days that one of the steps divides."""
     return (), tuple(int(any(day % step == 0 for step in steps)) for day in range(lcm(*steps)))
+
+
+def at(step, place):
+    """The form of each day that leaves `place` by `step`."""
+    return (), tuple(int(day == place) for day in range(step))
+
+
+def turned(form):
+    return tuple(tuple(1 - entry for entry in part) for part in form)
+
+
+def just(*days):
+    """The pulse of a few days, none behind them."""
+    return tuple(int(day in days) for day in range(max(days) + 1)), (0,)
+
+
+def is_too_long(pulse):
+    """Whether promise [4] refuses the pulse."""
+    return len(pulse[0]) > 400 or len(pulse[1]) > 200
 
 
 def some_forms(seed, number, longest_head, longest_bar):

@@ -6,7 +6,7 @@ from math import lcm
 from pulsebook.errors import TooLong
 from pulsebook.pulses import always, checked, has, made, never
 from pulsebook.sets import apart, both, either, less, other
-from tests.helper import every, figures, forms, pulse_of_days, some_forms
+from tests.helper import at, every, figures, forms, pulse_of_days, some_forms, turned
 
 # Each function of two pulses, and what its words in [5] say of one day.
 OF_TWO = {
@@ -15,15 +15,6 @@ OF_TWO = {
     less: lambda mine, theirs: int(mine == 1 and theirs == 0),
     apart: lambda mine, theirs: int(mine != theirs),
 }
-
-
-def at(step, place):
-    """The form of each day that leaves `place` by `step`."""
-    return (), tuple(int(day == place) for day in range(step))
-
-
-def turned(form):
-    return tuple(tuple(1 - entry for entry in part) for part in form)
 
 
 class DayByDay(unittest.TestCase):
