@@ -1,4 +1,4 @@
-"""What the modules share: whole numbers, the figures of days, and the one pulse that has given days."""
+"""What the modules share: whole numbers, lists, the figures of days, and the one pulse that has given days."""
 
 from pulsebook.errors import TooLong
 
@@ -11,8 +11,16 @@ def is_whole(value):
     return isinstance(value, int) and not isinstance(value, bool)
 
 
-def is_figure(value):
-    return is_whole(value) and 0 <= value <= 1
+def is_number(value, least, greatest):
+    return is_whole(value) and least <= value <= greatest
+
+
+def are_numbers(entries, least, greatest):
+    return all([is_number(entry, least, greatest) for entry in entries])
+
+
+def is_list(value, fewest, most):
+    return isinstance(value, list) and fewest <= len(value) <= most
 
 
 def place_in_bar(day, head, bar):
@@ -30,6 +38,14 @@ def figure_of(pulse, day):
 
 def places_of_ones(figures):
     return [place for place in range(len(figures)) if figures[place] == 1]
+
+
+def days_of_head(pulse):
+    return places_of_ones(pulse[0])
+
+
+def first_days_of_bar(pulse):
+    return [len(pulse[0]) + place for place in places_of_ones(pulse[1])]
 
 
 def longer_head(one, other):

@@ -1,13 +1,13 @@
 """Forms and pulses: which are refused, the one pulse of a form, and whether a day is in it."""
 
 from pulsebook.errors import BadForm, NotTight
-from pulsebook.kinds import LONGEST_BAR, LONGEST_HEAD, figure_of, is_figure, tight
+from pulsebook.kinds import LONGEST_BAR, LONGEST_HEAD, are_numbers, figure_of, tight
 
 
 def is_row(value, fewest, most):
     if not isinstance(value, tuple) or not fewest <= len(value) <= most:
         return False
-    return all([is_figure(entry) for entry in value])
+    return are_numbers(value, 0, 1)
 
 
 def is_form(value):

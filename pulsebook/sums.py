@@ -1,18 +1,10 @@
 """Days added: the sum of two pulses, and all sums of a list of numbers."""
 
 from pulsebook.errors import BadList
-from pulsebook.kinds import common_bar, is_whole, places_of_ones, told
+from pulsebook.kinds import are_numbers, common_bar, days_of_head, first_days_of_bar, is_list, told
 
 MOST_NUMBERS = 6
 GREATEST_NUMBER = 20
-
-
-def days_of_head(pulse):
-    return places_of_ones(pulse[0])
-
-
-def first_days_of_bar(pulse):
-    return [len(pulse[0]) + place for place in places_of_ones(pulse[1])]
 
 
 def summed(days, others, steps, length):
@@ -44,16 +36,10 @@ def added(one, other):
     return told(figures[:head], figures[head:])
 
 
-def is_list_of_numbers(value):
-    if not isinstance(value, list) or not 1 <= len(value) <= MOST_NUMBERS:
-        return False
-    return all([is_whole(entry) and 1 <= entry <= GREATEST_NUMBER for entry in value])
-
-
 # Of as many numbers as the first one says, some make a multiple of it together and can be left out. So the least sum of
 # each remainder by the first number has fewer numbers than that, and from there on that remainder has them all.
 def all_sums(numbers):
-    if not is_list_of_numbers(numbers):
+    if not is_list(numbers, 1, MOST_NUMBERS) or not are_numbers(numbers, 1, GREATEST_NUMBER):
         raise BadList("this is no list of 1 to 6 whole numbers from 1 to 20")
     head = GREATEST_NUMBER * GREATEST_NUMBER
     figures = summed([0], [0], numbers, head + numbers[0])

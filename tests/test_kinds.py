@@ -3,7 +3,7 @@
 import unittest
 
 from pulsebook.errors import TooLong
-from pulsebook.kinds import is_figure, is_whole, told
+from pulsebook.kinds import are_numbers, is_list, is_number, is_whole, told
 from tests.helper import every
 
 
@@ -18,11 +18,26 @@ class Numbers(unittest.TestCase):
             with self.subTest(value=value):
                 self.assertIs(is_whole(value), False)
 
-    def test_figures(self):
-        self.assertEqual([value for value in (-1, 0, 1, 2) if is_figure(value)], [0, 1])
+    def test_numbers_from_one_to_another(self):
+        self.assertEqual([value for value in range(-5, 10) if is_number(value, 0, 1)], [0, 1])
+        self.assertEqual([value for value in range(-5, 10) if is_number(value, 3, 3)], [3])
+        self.assertEqual([value for value in range(-5, 10) if is_number(value, 4, 3)], [])
         for value in (True, False, None, "0", 1.0):
             with self.subTest(value=value):
-                self.assertIs(is_figure(value), False)
+                self.assertIs(is_number(value, 0, 1), False)
+
+    def test_rows_of_numbers(self):
+        for entries in ([], (), [3], [5, 3, 4], (4, 4)):
+            self.assertIs(are_numbers(entries, 3, 5), True)
+        for entries in ([2], [6], [3, 4, 6], [2, 4, 4], (3, None, 4), [True]):
+            with self.subTest(entries=entries):
+                self.assertIs(are_numbers(entries, 3, 5), False)
+
+    def test_lists(self):
+        self.assertEqual([length for length in range(6) if is_list([None] * length, 2, 4)], [2, 3, 4])
+        for value in ((1, 2), "12", None, {1: 2, 3: 4}, {1, 2}, range(2), True, 2):
+            with self.subTest(value=value):
+                self.assertIs(is_list(value, 0, 4), False)
 
 
 class Told(unittest.TestCase):
